@@ -8,6 +8,7 @@ import (
 	"triage/api"
 	"triage/config"
 	"triage/probe"
+	"triage/spoilt"
 )
 
 const (
@@ -38,49 +39,9 @@ func counts(rise, fall int) api.Config {
 
 // refused are configurations that may not be, with other Rise, Fall and Interval than by itself, so that what they count as is seen.
 func refused() []api.Config {
-	l := []api.Config{{}, {Rise: 5, Fall: 6, Interval: 700, Jitter: 8}}
-	for _, spoil := range []func(*api.Config){
-		func(c *api.Config) { c.Interval = 9 },
-		func(c *api.Config) { c.Interval = 10001 },
-		func(c *api.Config) { c.Interval = -1 },
-		func(c *api.Config) { c.Interval = greatest },
-		func(c *api.Config) { c.Timeout = 0 },
-		func(c *api.Config) { c.Jitter = -1 },
-		func(c *api.Config) { c.Jitter = 1001 },
-		func(c *api.Config) { c.Jitter = greatest },
-		func(c *api.Config) { c.Jitter = least },
-		func(c *api.Config) { c.Rise = 0 },
-		func(c *api.Config) { c.Rise = 11 },
-		func(c *api.Config) { c.Rise = greatest },
-		func(c *api.Config) { c.Rise = least },
-		func(c *api.Config) { c.Fall = 0 },
-		func(c *api.Config) { c.Fall = 11 },
-		func(c *api.Config) { c.Fall = greatest },
-		func(c *api.Config) { c.Fall = least },
-		func(c *api.Config) { c.Panic = 101 },
-		func(c *api.Config) { c.Over = 99 },
-		func(c *api.Config) { c.Sweep = 0 },
-		func(c *api.Config) { c.Drain = 0 },
-		func(c *api.Config) { c.Policy = 0 },
-		func(c *api.Config) { c.Policy = 4 },
-		func(c *api.Config) { c.Zone = "-" },
-		func(c *api.Config) { c.Zone = "EU" },
-	} {
-		c := counts(5, 6)
-		c.Interval, c.Jitter = 700, 8
-		spoil(&c)
-		l = append(l, c)
-	}
-	return l
-}
-
-// TestRefused: what these tests call refused may not be.
-func TestRefused(t *testing.T) {
-	for i, c := range refused() {
-		if config.May(c) {
-			t.Error(i, c)
-		}
-	}
+	c := counts(5, 6)
+	c.Interval, c.Jitter = 700, 8
+	return append(spoilt.Configs(c), api.Config{Rise: 5, Fall: 6, Interval: 700, Jitter: 8})
 }
 
 // TestNew: P10.1: Up, and nothing else; each time anew.
